@@ -1,0 +1,1 @@
+"""Linkforests: forests that arise from joining lighter trees below heavier ones."""

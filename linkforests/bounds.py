@@ -1,0 +1,9 @@
+"""The limits of the package."""
+
+MAX_VERTICES = 24
+LISTED = 2000
+SHAPE_VERTICES = 60
+BATCH = 20
+HISTORY = 30
+MAX_COUNT = 10 ** 12
+MAX_FORESTS = 8
