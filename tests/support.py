@@ -1,7 +1,13 @@
-"""Values and forests that several tests use."""
+"""Values, forests and ways to find results that several tests use."""
 
-from itertools import product
+import inspect
+import unittest
+from collections import Counter
+from functools import lru_cache
+from itertools import combinations, permutations, product
 from random import Random
+
+from linkforests.forests import renamed
 
 MANY_KINDS = (
     None, True, False, 0, 1, -1, 24, 10 ** 39, -(10 ** 39), "", "0", "vertex\n", (), (0,), (True, None), [],
@@ -77,3 +83,232 @@ def large_forests():
 def sample_forests():
     """Returns all small forests, and some of each greater number of vertices."""
     return small_forests() + large_forests()
+
+
+class CallCase(unittest.TestCase):
+    """Calls functions and checks that their arguments are as they were."""
+
+    def call(self, function, *given, **named):
+        """Returns what a call returns; of a generator, the list of what it yields."""
+        before = repr((given, named))
+        try:
+            result = function(*given, **named)
+            return list(result) if inspect.isgenerator(result) else result
+        finally:
+            self.assertEqual(repr((given, named)), before)
+
+    def refused(self, error, function, *given, **named):
+        """Checks that a call raises an error of this very class, and returns it."""
+        with self.assertRaises(ValueError, msg=f"{function.__name__}{given}") as caught:
+            self.call(function, *given, **named)
+        self.assertIs(type(caught.exception), error, f"{function.__name__}{given}")
+        return caught.exception
+
+    def same(self, found, wanted, about=None):
+        """Checks that two values are equal in all their parts, where True is not 1 and a list is no tuple."""
+        self.assertEqual(repr(found), repr(wanted), about)
+
+
+def lower_vertices(forest):
+    """Returns the ascending tuple of the vertices that are no roots."""
+    return tuple(vertex for vertex, parent in enumerate(forest) if vertex != parent)
+
+
+def joined_all(n, joins):
+    """Returns the forest after these joins, done on sets of vertices, or None if one of them is not a join."""
+    trees = {vertex: {vertex} for vertex in range(n)}
+    parents = list(range(n))
+    for child, parent in joins:
+        if child == parent or child not in trees or parent not in trees or len(trees[child]) > len(trees[parent]):
+            return None
+        trees[parent] |= trees.pop(child)
+        parents[child] = parent
+    return tuple(parents)
+
+
+def is_row(forest, value):
+    """Returns whether value is a tuple of different vertices that are no roots, True and False not counted."""
+    if type(value) is not tuple or {type(item) for item in value} - {int}:
+        return False
+    return len(set(value)) == len(value) and set(value) <= set(lower_vertices(forest))
+
+
+def is_true_history(forest, value):
+    """Returns whether value is a history, found by doing its joins."""
+    return is_row(forest, value) and joined_all(len(forest), [(vertex, forest[vertex]) for vertex in value]) == forest
+
+
+def is_true_beginning(forest, value):
+    """Returns whether value is a beginning of a built forest, found by doing its joins."""
+    if not is_row(forest, value):
+        return False
+    if joined_all(len(forest), [(vertex, forest[vertex]) for vertex in value]) is None:
+        return False
+    late = [child for child in lower_vertices(forest) if child not in value and forest[child] in value]
+    return not late
+
+
+@lru_cache(maxsize=None)
+def listed_histories(forest):
+    """Returns the ascending tuple of all histories, found by trying all orders."""
+    return tuple(order for order in permutations(lower_vertices(forest)) if is_true_history(forest, order))
+
+
+@lru_cache(maxsize=None)
+def listed_beginnings(forest):
+    """Returns the set of all beginnings, found by trying all orders."""
+    return frozenset(history[:size] for history in listed_histories(forest) for size in range(len(history) + 1))
+
+
+def all_forests(n):
+    """Returns all forests of n vertices."""
+    return [parents for parents in all_tuples(n) if len(grounded(parents)) == n]
+
+
+@lru_cache(maxsize=None)
+def arising_forests(n):
+    """Returns the set of all forests that arise from n single vertices, found by doing all joins."""
+    found = {tuple(range(n))}
+    front = list(found)
+    while front:
+        forest = front.pop()
+        for child, parent in true_joins(forest):
+            after = forest[:child] + (parent,) + forest[child + 1:]
+            if after not in found:
+                found.add(after)
+                front.append(after)
+    return frozenset(found)
+
+
+def tops_of(forest):
+    """Returns for each vertex the root to which its parents lead."""
+    tops = list(range(len(forest)))
+    for step in forest:
+        tops = [forest[top] for top in tops]
+    return tops
+
+
+def true_joins(forest):
+    """Returns the ascending list of all joins in the forest, found by counting the vertices below each root."""
+    sizes = Counter(tops_of(forest))
+    return [pair for pair in permutations(sorted(sizes), 2) if sizes[pair[0]] <= sizes[pair[1]]]
+
+
+def shape_of(forest):
+    """Returns a value that two forests have in common exactly if they differ only in their names."""
+    def below(vertex):
+        return tuple(sorted(below(child) for child in lower_vertices(forest) if forest[child] == vertex))
+    return tuple(sorted(below(vertex) for vertex, parent in enumerate(forest) if vertex == parent))
+
+
+@lru_cache(maxsize=None)
+def shaped_forests(n):
+    """Returns one forest for each shape of n vertices, built or not, with its vertices numbered in any order."""
+    chance = Random(n)
+    found = {}
+    for parents in product(*[range(vertex + 1) for vertex in range(n)]):
+        found.setdefault(shape_of(parents), parents)
+    return tuple(renamed(parents, tuple(chance.sample(range(n), n))) for parents in found.values())
+
+
+def shaped_built(n):
+    """Returns the built forests among those of shaped_forests."""
+    return [forest for forest in shaped_forests(n) if listed_histories(forest)]
+
+
+def random_built(chance, n, tops):
+    """Returns a built forest of n vertices with this many roots."""
+    sizes = {vertex: 1 for vertex in range(n)}
+    parents = list(range(n))
+    while len(sizes) > tops:
+        child, parent = sorted(chance.sample(sorted(sizes), 2), key=lambda vertex: sizes[vertex])
+        parents[child] = parent
+        sizes[parent] += sizes.pop(child)
+    return tuple(parents)
+
+
+def binomial_tree(n):
+    """Returns the tree in which each join is between trees as nearly of the same weight as possible."""
+    return tuple(vertex & (vertex - 1) if vertex else 0 for vertex in range(n))
+
+
+@lru_cache(maxsize=None)
+def built_forests():
+    """Returns built forests of each number of vertices from 1 to 24, stars and binomial trees among them."""
+    chance = Random(42)
+    forests = []
+    for n in range(1, 25):
+        forests += [(n // 2,) * n, tuple(range(n)), binomial_tree(n)]
+        forests += [random_built(chance, n, tops) for tops in (1, 1, 1, (n + 1) // 2, (n + 3) // 4)]
+    return tuple(forests)
+
+
+def unbuilt_forests():
+    """Returns forests that are not built, of 3 to 24 vertices."""
+    return [forest for forest in large_forests() if true_heavy(forest)]
+
+
+def true_heavy(forest):
+    """Returns the ascending tuple of the heavy children, found by counting paths."""
+    sizes = Counter()
+    for vertex in range(len(forest)):
+        sizes.update({vertex, *path_above(forest, vertex)})
+    heavy = []
+    for child in lower_vertices(forest):
+        siblings = [other for other in lower_vertices(forest) if forest[other] == forest[child]]
+        if sizes[child] > 1 + sum(sizes[other] for other in siblings if sizes[other] < sizes[child]):
+            heavy.append(child)
+    return tuple(heavy)
+
+
+def path_above(forest, vertex):
+    """Returns the list of the vertices above vertex."""
+    above = []
+    while forest[vertex] != vertex:
+        vertex = forest[vertex]
+        above.append(vertex)
+    return above
+
+
+def random_beginning(chance, forest, steps):
+    """Returns a beginning of a built forest with this many joins, or all if there are fewer, drawn one by one."""
+    begun = ()
+    while len(begun) < min(steps, len(lower_vertices(forest))):
+        begun = chance.choice(after_each(forest, begun))
+    return begun
+
+
+def after_each(forest, begun):
+    """Returns the ascending list of the beginnings that have one vertex more than begun."""
+    longer = [begun + (vertex,) for vertex in lower_vertices(forest)]
+    return [row for row in longer if is_true_beginning(forest, row)]
+
+
+def random_history(chance, forest):
+    """Returns a history of a built forest, drawn vertex by vertex."""
+    return random_beginning(chance, forest, len(forest))
+
+
+def with_item(row, index, item):
+    """Returns the tuple with another item at this index."""
+    return row[:index] + (item,) + row[index + 1:]
+
+
+def other_items(item):
+    """Returns values that an item can be replaced by, among them one that is equal to it but of another kind."""
+    equal = [bool(item)] if item in (0, 1) and type(item) is int else []
+    return equal + [None, "0", -1, 24, 10 ** 39, (item,), [item], {"in": item}, True, False, 0]
+
+
+def variants(value):
+    """Returns values that differ from a tuple in one part, or in the order or the number of its parts."""
+    size = len(value)
+    found = [list(value), {"in": value}, (value,), [value], str(value), None, value + value, value[::-1]]
+    for index in range(size):
+        found += [with_item(value, index, item) for item in other_items(value[index])]
+        found += [value[:index] + value[index + 1:], value[:index] + value[index:index + 1] + value[index:]]
+        if type(value[index]) is tuple:
+            found += [with_item(value, index, item) for item in variants(value[index])]
+    for low, high in combinations(range(size), 2):
+        found.append(with_item(with_item(value, low, value[high]), high, value[low]))
+    return [other for other in found if repr(other) != repr(value)]

@@ -4,7 +4,12 @@ import unittest
 from pathlib import Path
 
 FOLDER = Path(__file__).parent / "examples"
-PROMISES = {"forests": range(5, 14)}
+PROMISES = {
+    "forests": range(5, 14),
+    "builds": range(16, 26),
+    "histories": [*range(27, 39), *range(40, 43)],
+    "orders": range(44, 56),
+}
 
 
 def shown_error(error):
@@ -40,14 +45,12 @@ def sessions_of(path):
 class ExamplesTest(unittest.TestCase):
     def run_session(self, lines):
         names = {}
-        printed = 0
+        self.assertFalse(lines[-1].startswith(">>> "))
         for at, line in enumerate(lines):
             if not line.startswith(">>> "):
-                printed += 1
                 self.assertEqual(outcome(lines[at - 1][4:], names), line)
             elif lines[at + 1].startswith(">>> "):
                 exec(line[4:], names)
-        self.assertEqual(printed, 1)
 
     def test_sessions(self):
         for path in sorted(FOLDER.glob("*.txt")):

@@ -5,7 +5,7 @@ from copy import deepcopy
 from itertools import product
 
 from linkforests.forests import forest_error, is_forest
-from tests.support import all_tuples, down_path, grounded, nested, sample_forests, up_path
+from tests.support import all_tuples, down_path, grounded, nested, sample_forests, up_path, with_item
 
 NOT_TUPLES = (
     None, True, False, 0, 1, -3, 10 ** 39, "", "0", "01", "tuple", [], [0], [0, 0, 1], [1, 0], list(range(25)), {},
@@ -26,10 +26,6 @@ def expected(parents):
             return (index, "parent")
     loose = first_loose(parents)
     return None if loose is None else (loose, "cycle")
-
-
-def with_item(parents, index, item):
-    return parents[:index] + (item,) + parents[index + 1:]
 
 
 class FormTest(unittest.TestCase):

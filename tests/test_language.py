@@ -1,6 +1,7 @@
 """Checks those rules of LANGUAGE.md on the package that can be read off its text."""
 
 import ast
+import builtins
 import re
 import unittest
 from pathlib import Path
@@ -12,6 +13,11 @@ BARRED = re.compile(
 )
 STATEMENTS = (ast.Expr, ast.ImportFrom, ast.FunctionDef, ast.ClassDef, ast.Assign)
 CONSTANTS = (None, True, False)
+BUILTINS = set(
+    "len range enumerate zip min max sum abs sorted reversed int str bool list tuple dict set isinstance ord repr any"
+    " all divmod ValueError".split()
+)
+METHODS = set("append clear copy count extend get index insert items keys pop remove reverse update values".split())
 
 
 def sources():
@@ -23,6 +29,22 @@ def nodes_of(kind):
     """Returns pairs of a file's name and a part of this kind in it."""
     parts = [(path.name, node) for path, text in sources() for node in ast.walk(ast.parse(text))]
     return [(name, node) for name, node in parts if isinstance(node, kind)]
+
+
+def bound_names(function):
+    """Returns the set of the names of the parameters and local variables of a function."""
+    parts = list(ast.walk(function))
+    stored = {part.id for part in parts if isinstance(part, ast.Name) and isinstance(part.ctx, ast.Store)}
+    return stored | {part.arg for part in parts if isinstance(part, ast.arg)}
+
+
+def defined(kind):
+    """Returns the set of the names of all functions or classes of the package."""
+    return {node.name for file, node in nodes_of(kind)}
+
+
+def has_yield(function):
+    return any(isinstance(part, (ast.Yield, ast.YieldFrom)) for part in ast.walk(function))
 
 
 class LanguageTest(unittest.TestCase):
@@ -67,6 +89,55 @@ class LanguageTest(unittest.TestCase):
         named += [(name, node.arg) for name, node in nodes_of(ast.arg)]
         named += [(name, node.attr) for name, node in nodes_of(ast.Attribute)]
         self.assertEqual([row for row in named if row[1].startswith("_")], [])
+
+    def test_local_names_have_no_other_meaning(self):
+        for path, text in sources():
+            tree = ast.parse(text)
+            imported = {a.name for node in ast.walk(tree) if isinstance(node, ast.ImportFrom) for a in node.names}
+            taken = imported | defined(ast.ClassDef) | set(dir(builtins))
+            for node in ast.walk(tree):
+                if isinstance(node, ast.FunctionDef):
+                    with self.subTest(file=path.name, function=node.name):
+                        self.assertEqual(bound_names(node) & taken, set())
+
+    def test_imported_names_stand_in_the_file_that_defines_them(self):
+        for name, node in nodes_of(ast.ImportFrom):
+            text = (PACKAGE / f"{node.module.split('.')[-1]}.py").read_text(encoding="utf-8")
+            for alias in node.names:
+                with self.subTest(file=name, name=alias.name):
+                    self.assertRegex(text, rf"(?m)^((def|class) {alias.name}\b|{alias.name} = )")
+
+    def test_builtins(self):
+        used = {node.id for name, node in nodes_of(ast.Name) if hasattr(builtins, node.id)}
+        self.assertEqual(used - BUILTINS, set())
+
+    def test_methods(self):
+        own = defined(ast.FunctionDef)
+        calls = [(name, node.func) for name, node in nodes_of(ast.Call) if isinstance(node.func, ast.Attribute)]
+        self.assertEqual([(name, func.attr) for name, func in calls if func.attr not in own | METHODS], [])
+
+    def test_methods_and_attributes_have_different_names(self):
+        methods = {part.name for name, node in nodes_of(ast.ClassDef) for part in node.body if hasattr(part, "name")}
+        stored = {node.attr for name, node in nodes_of(ast.Attribute) if isinstance(node.ctx, ast.Store)}
+        self.assertEqual(methods & stored, set())
+
+    def test_generators_are_iterated_at_once(self):
+        generators = {node.name for name, node in nodes_of(ast.FunctionDef) if has_yield(node)}
+        called = [node for name, node in nodes_of(ast.Call) if isinstance(node.func, ast.Name)]
+        at_once = [node.value for name, node in nodes_of(ast.YieldFrom)]
+        at_once += [node.iter for name, node in nodes_of((ast.For, ast.comprehension))]
+        at_once += [node.args[0] for node in called if node.func.id in ("list", "tuple")]
+        seen = [node.func.id for node in at_once if isinstance(node, ast.Call) and isinstance(node.func, ast.Name)]
+        wanted = [node.func.id for node in called if node.func.id in generators]
+        self.assertEqual(sorted(name for name in seen if name in generators), sorted(wanted))
+
+    def test_files_do_not_import_each_other(self):
+        above = {path.stem: set() for path, text in sources()}
+        for name, node in nodes_of(ast.ImportFrom):
+            above[name.removesuffix(".py")].add(node.module.split(".")[-1])
+        for step in above:
+            above = {name: found.union(*[above[other] for other in found]) for name, found in above.items()}
+        self.assertEqual([name for name, found in above.items() if name in found], [])
 
     def test_is_stands_beside_constants(self):
         for name, node in nodes_of(ast.Compare):
