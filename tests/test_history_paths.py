@@ -120,10 +120,10 @@ class PathHoldsTest(CallCase):
         return wanted
 
     def test_all_ways_in_small_forests(self):
-        # All ways of so many exchanges, shortest or not, that lead anywhere.
+        # All ways of so many exchanges, shortest or not, from anywhere to anywhere.
         for forest in [forest for n in range(1, 5) for forest in shaped_built(n)]:
             for first, second in product(listed_histories(forest), repeat=2):
-                ways = [(first,)]
+                ways = [(history,) for history in listed_histories(forest)]
                 for exchanges in range(4):
                     for way in ways:
                         self.check(forest, first, second, way)
@@ -166,6 +166,7 @@ class PathHoldsTest(CallCase):
         self.assertFalse(self.check((0,) * 4, rows[0], rows[3], (rows[0], rows[0], rows[2], rows[3])))
         self.assertFalse(self.check((0,) * 4, rows[0], rows[3], (rows[0], rows[3], rows[2], rows[3])))
         self.assertFalse(self.check((0,) * 4, rows[0], rows[2], (rows[0], rows[3], rows[2])))
+        self.assertFalse(self.check((0,) * 4, rows[0], rows[3], (rows[0], rows[1], rows[0], rows[3])))
         self.assertFalse(self.check((0,) * 4, rows[0], rows[3], rows[:3] + ((2, 3, 1),)))
         self.assertFalse(self.check((0,) * 4, rows[0], rows[3], ((2, 1, 3), (2, 3, 1), (3, 2, 1), (3, 2, 1))))
 
