@@ -3,7 +3,8 @@
 from linkforests.bounds import LISTED
 from linkforests.builds import check_built, is_built
 from linkforests.courses import (
-    Course, begun_course, count_after, count_joins, count_mixes, count_orders, is_whole, join_without, move_on, walk_on,
+    Course, begun_course, count_mixes, count_orders, course_at, course_index, is_whole, join_without, move_on,
+    room_by_weight, walk_on,
 )
 from linkforests.errors import NoHistory, NoIndex, TooMany
 from linkforests.forests import children_of, is_plain_int, tree_of, weights
@@ -24,7 +25,7 @@ def count_child_orders(forest, vertex):
     """Returns in how many orders the children of vertex can be joined to it."""
     loads = weights(forest)
     parts = sorted([(loads[child], 0) for child in children_of(forest, vertex)])
-    return count_mixes(1, tuple(parts), {})
+    return count_mixes(room_by_weight, 1, tuple(parts), {})
 
 
 def count_tree_histories(forest, vertex):
@@ -34,7 +35,7 @@ def count_tree_histories(forest, vertex):
     ways = 1
     for top in tree_of(forest, vertex):
         parts = sorted([(loads[child], loads[child] - 1) for child in children_of(forest, top)])
-        ways *= count_mixes(1, tuple(parts), known)
+        ways *= count_mixes(room_by_weight, 1, tuple(parts), known)
     return ways
 
 
@@ -62,7 +63,7 @@ def last_history(forest, *begun):
     """Returns the greatest history that begins with the vertices begun."""
     check_built(forest)
     course = begun_course(forest, begun)
-    while len(course.joined) < count_joins(forest):
+    while len(course.joined) < len(course.lower):
         course.take(course.possible()[-1])
     return tuple(course.joined)
 
@@ -80,38 +81,13 @@ def history_at(forest, index):
     """Returns the history with this index in ascending order."""
     if not is_plain_int(index) or not 0 <= index < count_histories(forest):
         raise NoIndex(index)
-    course = Course(forest)
-    known = {}
-    rest = index
-    while len(course.joined) < count_joins(forest):
-        rest = take_turn(course, rest, known)
-    return tuple(course.joined)
-
-
-def take_turn(course, index, known):
-    """Joins the vertex with which the course with this index goes on; returns its index among those that do so."""
-    rest = index
-    choices = course.possible()
-    for vertex in choices:
-        ways = count_after(course, vertex, known)
-        if rest < ways:
-            course.take(vertex)
-            break
-        rest -= ways
-    return rest
+    return course_at(Course(forest), index)
 
 
 def history_index(forest, value):
     """Returns the index of a history in ascending order."""
     check_history(forest, value)
-    course = Course(forest)
-    known = {}
-    index = 0
-    for vertex in value:
-        smaller = [other for other in course.possible() if other < vertex]
-        index += sum([count_after(course, other, known) for other in smaller])
-        course.take(vertex)
-    return index
+    return course_index(Course(forest), value)
 
 
 def weights_along(forest, value):
@@ -178,6 +154,7 @@ def history_path_holds(forest, first, second, value):
 
 def each_history(forest):
     """Yields all histories of the forest in ascending order."""
-    many = count_joins(forest)
+    course = Course(forest)
+    many = len(course.lower)
     if is_built(forest):
-        yield from walk_on(forest, (), many)
+        yield from walk_on(course, many)

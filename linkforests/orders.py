@@ -1,9 +1,7 @@
 """Orders: beginnings of histories, which joins come before others, and when each join can happen."""
 
 from linkforests.builds import check_built
-from linkforests.courses import (
-    Course, begun_course, count_joins, count_orders, course_along, is_whole, join_without, walk_on,
-)
+from linkforests.courses import Course, begun_course, count_orders, follows, is_whole, join_without, walk_on
 from linkforests.errors import NoVertex, SameVertex
 from linkforests.forests import children_of, is_plain_int, is_vertex, tree_of, weights
 
@@ -17,7 +15,7 @@ def built_course(forest, beginning):
 def is_beginning(forest, value):
     """Returns whether value is a beginning of the forest."""
     check_built(forest)
-    return course_along(forest, value) is not None
+    return follows(Course(forest), value)
 
 
 def next_vertices(forest, beginning):
@@ -172,9 +170,9 @@ def late_history(forest, vertex):
 
 def walk_beginnings(forest, *first, steps=None):
     """Yields in ascending order all beginnings of so many joins, or all histories, that begin with first."""
-    check_built(forest)
-    many = count_joins(forest) if steps is None else steps
-    yield from walk_on(forest, first, many)
+    course = built_course(forest, first)
+    many = len(course.lower) if steps is None else steps
+    yield from walk_on(course, many)
 
 
 def merged_beginning(forest, *beginnings, complete=False):

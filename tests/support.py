@@ -3,7 +3,7 @@
 import inspect
 import unittest
 from collections import Counter
-from functools import lru_cache
+from functools import cmp_to_key, lru_cache
 from itertools import combinations, permutations, product
 from random import Random
 
@@ -312,3 +312,159 @@ def variants(value):
     for low, high in combinations(range(size), 2):
         found.append(with_item(with_item(value, low, value[high]), high, value[low]))
     return [other for other in found if repr(other) != repr(value)]
+
+
+def true_weights(forest):
+    """Returns the list of the weights of all vertices, found by counting paths."""
+    sizes = [0] * len(forest)
+    for vertex in range(len(forest)):
+        for above in [vertex, *path_above(forest, vertex)]:
+            sizes[above] += 1
+    return sizes
+
+
+def true_left(one, other):
+    """Returns the ascending tuple of the vertices that are roots of one and not of other."""
+    return tuple(vertex for vertex in range(len(one)) if one[vertex] == vertex != other[vertex])
+
+
+def true_obstacles(one, other):
+    """Returns the ascending tuple of all obstacles, vertex by vertex as they are defined."""
+    before, after, left = true_weights(one), true_weights(other), true_left(one, other)
+    found = [("apart", vertex) for vertex in lower_vertices(one) if one[vertex] != other[vertex]]
+    for vertex in left:
+        parent = other[vertex]
+        lighter = [after[v] for v in left if other[v] == parent and after[v] < after[vertex]]
+        if one[parent] != parent:
+            found.append(("closed", vertex))
+        elif after[vertex] > before[parent] + sum(lighter):
+            found.append(("heavy", vertex))
+    return tuple(sorted(found))
+
+
+def with_join(forest, vertex, other):
+    """Returns the forest after vertex is joined to its parent in other, or None if this is not a join."""
+    if (vertex, other[vertex]) not in true_joins(forest):
+        return None
+    return with_item(forest, vertex, other[vertex])
+
+
+def is_true_growth(one, other, value):
+    """Returns whether value is a growth from one to other, found by doing its joins."""
+    if type(value) is not tuple or {type(item) for item in value} - {int}:
+        return False
+    if sorted(value) != list(true_left(one, other)):
+        return False
+    for vertex in value:
+        one = with_join(one, vertex, other)
+        if one is None:
+            return False
+    return one == other
+
+
+@lru_cache(maxsize=None)
+def listed_growths(one, other):
+    """Returns the ascending tuple of all growths from one to other, found by trying all orders of joins."""
+    left = true_left(one, other)
+    if not left:
+        return ((),) if one == other else ()
+    rows = []
+    for vertex in left:
+        after = with_join(one, vertex, other)
+        if after is not None:
+            rows += [(vertex,) + row for row in listed_growths(after, other)]
+    return tuple(rows)
+
+
+def grown(chance, forest, joins):
+    """Returns a forest that arises from this one by so many drawn joins, or by fewer if one tree is left."""
+    for step in range(joins):
+        choices = true_joins(forest)
+        if choices:
+            child, parent = chance.choice(choices)
+            forest = with_item(forest, child, parent)
+    return forest
+
+
+def with_other_parent(chance, forest):
+    """Returns a forest in which one vertex has another parent, or the forest itself if it has one vertex."""
+    while len(forest) > 1:
+        vertex, parent = chance.randrange(len(forest)), chance.randrange(len(forest))
+        other = with_item(forest, vertex, parent)
+        if other != forest and len(grounded(other)) == len(other):
+            return other
+    return forest
+
+
+@lru_cache(maxsize=None)
+def growing_pairs():
+    """Returns pairs of forests of 1 to 24 vertices, built or not, of which the second one grows from the first one."""
+    chance = Random(56)
+    pairs = []
+    for n in range(1, 25):
+        pairs += [(tuple(range(n)), forest) for forest in ((n // 2,) * n, binomial_tree(n), random_built(chance, n, 1))]
+        for repeat in range(6):
+            few = chance.randrange(n)
+            start = random_forest(chance, n) if repeat < 3 else grown(chance, tuple(range(n)), few)
+            start = tuple(p if chance.random() < 0.6 else v for v, p in enumerate(start)) if repeat < 2 else start
+            pairs.append((start, grown(chance, start, chance.randrange(n))))
+    return tuple(pairs)
+
+
+@lru_cache(maxsize=None)
+def any_pairs():
+    """Returns the growing pairs, the same with one parent changed, and pairs of any two forests."""
+    chance = Random(57)
+    pairs = list(growing_pairs())
+    for one, other in growing_pairs():
+        pairs += [(with_other_parent(chance, one), other), (one, with_other_parent(chance, other)), (other, one)]
+    for n in range(1, 25):
+        pairs += [(random_forest(chance, n), random_forest(chance, n)) for repeat in range(3)]
+        pairs.append((tuple(range(n)), random_forest(chance, n)))
+    return tuple(pairs)
+
+
+def nest_size(shape):
+    """Returns the weight of a shape."""
+    return 1 + sum(nest_size(item) for item in shape)
+
+
+def compare_shapes(one, other):
+    """Returns -1, 0 or 1 as one comes before, is, or comes after other in shape order."""
+    if nest_size(one) != nest_size(other):
+        return -1 if nest_size(one) < nest_size(other) else 1
+    for low, high in zip(one, other):
+        if low != high:
+            return compare_shapes(low, high)
+    return 0
+
+
+def in_shape_order(shapes):
+    """Returns the tuple of these shapes in shape order."""
+    return tuple(sorted(shapes, key=cmp_to_key(compare_shapes)))
+
+
+def true_shape(forest, vertex):
+    """Returns the shape of the tree of vertex."""
+    return in_shape_order(true_shape(forest, v) for v, parent in enumerate(forest) if parent == vertex != v)
+
+
+@lru_cache(maxsize=None)
+def joined_shapes(n):
+    """Returns the built shapes of weight n in shape order, found by joining a lighter tree below a heavier one."""
+    found = {()} if n == 1 else set()
+    for low in range(1, n // 2 + 1):
+        for child in joined_shapes(low):
+            for top in joined_shapes(n - low):
+                found.add(in_shape_order(top + (child,)))
+    return in_shape_order(found)
+
+
+@lru_cache(maxsize=None)
+def all_shapes(n):
+    """Returns all shapes of weight n, built or not, in shape order."""
+    rows = {0: {()}}
+    for size in range(1, n):
+        rows[size] = {in_shape_order(row + (item,)) for low in range(1, size + 1) for item in all_shapes(low)
+                      for row in rows[size - low]}
+    return in_shape_order(rows[n - 1])

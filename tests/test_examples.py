@@ -9,6 +9,9 @@ PROMISES = {
     "builds": range(16, 26),
     "histories": [*range(27, 39), *range(40, 43)],
     "orders": range(44, 56),
+    "growth": [*range(58, 68), *range(69, 74), 75, 76],
+    "depths": range(78, 87),
+    "shapes": range(88, 102),
 }
 
 

@@ -60,8 +60,64 @@ SIGNATURES = {
         "walk_beginnings": "(forest, *first, steps=None)",
         "merged_beginning": "(forest, *beginnings, complete=False)",
     },
+    "growth": {
+        "left_vertices": "(one, other)",
+        "obstacles": "(one, other)",
+        "grows_from": "(other, one)",
+        "growth_certificate": "(one, other)",
+        "growth_holds": "(one, other, value)",
+        "next_joins": "(one, other)",
+        "count_growths": "(one, other)",
+        "growth_at": "(one, other, index)",
+        "growth_index": "(one, other, value)",
+        "walk_growths": "(one, other)",
+        "count_starts": "(forest)",
+        "starts_of": "(forest)",
+        "merge_starts": "(forest, *starts)",
+        "common_start": "(*forests)",
+    },
+    "depths": {
+        "depths": "(forest)",
+        "vertex_heights": "(forest)",
+        "total_depth": "(forest)",
+        "thin_vertices": "(forest)",
+        "greatest_height": "(n)",
+        "greatest_total_depth": "(n)",
+        "deepest_forest": "(n)",
+        "tree_with_height": "(n, height)",
+        "tree_with_total_depth": "(n, total)",
+        "doubling_height": "(forest)",
+    },
+    "shapes": {
+        "is_shape": "(value)",
+        "shape_weight": "(value)",
+        "shape_of": "(forest, vertex)",
+        "shapes_of": "(forest)",
+        "is_built_shape": "(value)",
+        "forest_of": "(value)",
+        "count_shapes": "(n)",
+        "count_forest_shapes": "(n)",
+        "shapes_with": "(n)",
+        "shape_at": "(n, index)",
+        "shape_index": "(value)",
+        "count_labellings": "(value)",
+        "count_built_trees": "(n)",
+        "count_built_forests": "(n)",
+        "walk_shapes": "(n, *, skip=0)",
+        "root_over": "(*shapes)",
+    },
 }
-GENERATORS = ("states_along", "each_history", "walk_beginnings")
+GENERATORS = ("states_along", "each_history", "walk_beginnings", "walk_growths", "walk_shapes")
+# For each class: its arguments, its methods, its class methods, its properties and its class values.
+CLASSES = {
+    ("growth", "Way"): {
+        "arguments": "(one, other)",
+        "methods": {"join": "(self, vertex)", "go_to": "(self, forest)", "__len__": "(self)"},
+        "class methods": {"of": "(other)"},
+        "properties": ("at", "left", "choices"),
+        "values": {"KINDS": ("apart", "closed", "heavy")},
+    },
+}
 ROWS = [(module, name, wanted) for module, names in SIGNATURES.items() for name, wanted in names.items()]
 
 
@@ -79,6 +135,49 @@ class InterfaceTest(unittest.TestCase):
             with self.subTest(module=module, name=name):
                 function = getattr(importlib.import_module(f"linkforests.{module}"), name)
                 self.assertIs(inspect.isgeneratorfunction(function), name in GENERATORS)
+
+
+class ClassesTest(unittest.TestCase):
+    """Each name stands in the class itself, not only in a base class."""
+
+    def check_classes(self, check):
+        for (module, name), wanted in CLASSES.items():
+            with self.subTest(module=module, name=name):
+                check(getattr(importlib.import_module(f"linkforests.{module}"), name), wanted)
+
+    def test_arguments(self):
+        def check(found, wanted):
+            self.assertTrue(inspect.isclass(found))
+            self.assertEqual(str(inspect.signature(found)), wanted["arguments"])
+        self.check_classes(check)
+
+    def test_methods(self):
+        def check(found, wanted):
+            for name, arguments in wanted["methods"].items():
+                self.assertTrue(inspect.isfunction(vars(found)[name]), name)
+                self.assertEqual(str(inspect.signature(vars(found)[name])), arguments, name)
+                self.assertIs(inspect.isgeneratorfunction(vars(found)[name]), name == "walk")
+        self.check_classes(check)
+
+    def test_class_methods(self):
+        def check(found, wanted):
+            for name, arguments in wanted["class methods"].items():
+                self.assertIsInstance(vars(found)[name], classmethod)
+                self.assertEqual(str(inspect.signature(getattr(found, name))), arguments)
+        self.check_classes(check)
+
+    def test_properties_can_only_be_read(self):
+        def check(found, wanted):
+            for name in wanted["properties"]:
+                self.assertIsInstance(vars(found)[name], property)
+                self.assertIsNone(vars(found)[name].fset)
+        self.check_classes(check)
+
+    def test_class_values(self):
+        def check(found, wanted):
+            for name, value in wanted["values"].items():
+                self.assertEqual(repr(vars(found)[name]), repr(value))
+        self.check_classes(check)
 
 
 if __name__ == "__main__":

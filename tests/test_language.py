@@ -15,9 +15,11 @@ STATEMENTS = (ast.Expr, ast.ImportFrom, ast.FunctionDef, ast.ClassDef, ast.Assig
 CONSTANTS = (None, True, False)
 BUILTINS = set(
     "len range enumerate zip min max sum abs sorted reversed int str bool list tuple dict set isinstance ord repr any"
-    " all divmod ValueError".split()
+    " all divmod ValueError property classmethod".split()
 )
-METHODS = set("append clear copy count extend get index insert items keys pop remove reverse update values".split())
+METHODS = set(
+    "append bit_length clear copy count extend get index insert items keys pop remove reverse update values".split()
+)
 
 
 def sources():
@@ -138,6 +140,26 @@ class LanguageTest(unittest.TestCase):
         for step in above:
             above = {name: found.union(*[above[other] for other in found]) for name, found in above.items()}
         self.assertEqual([name for name, found in above.items() if name in found], [])
+
+    def test_decorators(self):
+        for name, node in nodes_of((ast.FunctionDef, ast.ClassDef)):
+            with self.subTest(file=name, line=node.lineno):
+                found = [part.id for part in node.decorator_list]
+                self.assertIn(found, ([], ["property"], ["classmethod"]))
+
+    def test_properties_change_nothing(self):
+        for name, node in nodes_of(ast.FunctionDef):
+            if any(part.id == "property" for part in node.decorator_list):
+                with self.subTest(file=name, property=node.name):
+                    self.assertEqual([len(node.args.args), len(node.body)], [1, 2])
+                    self.assertIsInstance(node.body[-1], ast.Return)
+
+    def test_powers_have_plain_exponents(self):
+        for name, node in nodes_of(ast.BinOp):
+            if isinstance(node.op, ast.Pow):
+                with self.subTest(file=name, line=node.lineno):
+                    self.assertIsInstance(node.right, ast.Constant)
+                    self.assertLessEqual(node.right.value, 64)
 
     def test_is_stands_beside_constants(self):
         for name, node in nodes_of(ast.Compare):
