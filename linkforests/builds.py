@@ -11,9 +11,14 @@ def is_root(forest, value):
     return is_vertex(len(forest), value) and forest[value] == value
 
 
+def are_two_roots(forest, one, other):
+    """Returns whether one and other are different roots of the forest."""
+    return is_root(forest, one) and is_root(forest, other) and one != other
+
+
 def is_join(forest, child, parent):
     """Returns whether (child, parent) is a join in the forest."""
-    if not is_root(forest, child) or not is_root(forest, parent) or child == parent:
+    if not are_two_roots(forest, child, parent):
         return False
     loads = weights(forest)
     return loads[child] <= loads[parent]
@@ -38,16 +43,21 @@ def after_join(forest, child, parent):
     return with_parent(forest, child, parent)
 
 
-def run_joins(n, joins):
-    """Returns the forest that arises from n single vertices by these joins."""
+def run_by(rule, n, joins):
+    """Returns the forest that arises from n single vertices by joins, each of which rule must accept."""
     if not isinstance(joins, tuple):
         raise BadJoin(None)
     forest = single(n)
     for index, item in enumerate(joins):
-        if not isinstance(item, tuple) or len(item) != 2 or not is_join(forest, item[0], item[1]):
+        if not isinstance(item, tuple) or len(item) != 2 or not rule(forest, item[0], item[1]):
             raise BadJoin(index)
         forest = with_parent(forest, item[0], item[1])
     return forest
+
+
+def run_joins(n, joins):
+    """Returns the forest that arises from n single vertices by these joins."""
+    return run_by(is_join, n, joins)
 
 
 def heavy_children(forest):

@@ -468,3 +468,69 @@ def all_shapes(n):
         rows[size] = {in_shape_order(row + (item,)) for low in range(1, size + 1) for item in all_shapes(low)
                       for row in rows[size - low]}
     return in_shape_order(rows[n - 1])
+
+
+def is_true_vertex(n, value):
+    return type(value) is int and 0 <= value < n
+
+
+def true_action(forest, action):
+    """Returns the forest after an action and the joins that it makes, or an error's name and its argument, if any."""
+    if action == ("grow",):
+        return (forest + (len(forest),), ()) if len(forest) < 24 else ("TooMany", 24)
+    for value in action[1:]:
+        if not is_true_vertex(len(forest), value):
+            return ("NoVertex", value)
+    tops = tops_of(forest)
+    one, other = tops[action[1]], tops[action[2]]
+    if one == other:
+        return ("SameTree",)
+    child, parent = (one, other) if tops.count(one) < tops.count(other) else (other, one)
+    return (with_item(forest, child, parent), ((child, parent),))
+
+
+def replayed(first, actions):
+    """Returns the list of the forests from the first one on, after each action, and the tuple of the joins made."""
+    states, joins = [first], ()
+    for action in actions:
+        forest, made = true_action(states[-1], action)
+        states.append(forest)
+        joins += made
+    return states, joins
+
+
+class JoinerCase(CallCase):
+    """Compares joiners with what arises if the actions in effect are done from the first forest on."""
+
+    def check_joiner(self, joiner, first, actions, bound):
+        """Checks all queries of a joiner."""
+        states, joins = replayed(first, actions)
+        self.same(joiner.forest(), states[-1])
+        self.same([joiner.forest(version=version) for version in range(len(states))], states)
+        self.same((joiner.joins(), joiner.actions()), (joins, tuple(actions)))
+        self.same((joiner.bound, len(joiner)), (bound, len(actions)))
+        tops = tops_of(states[-1])
+        self.same(joiner.trees, len(set(tops)))
+        words = f"{len(tops)} vertices, {len(set(tops))} trees, {len(actions)} actions"
+        steps = f", {joiner.steps} steps" if type(joiner).__name__ == "CountedJoiner" else ""
+        self.same(str(joiner), words + steps)
+        for vertex, top in enumerate(tops):
+            self.same((joiner.find(vertex), joiner.weight(vertex)), (top, tops.count(top)))
+            self.same(list(joiner.walk(vertex)), [vertex, *path_above(states[-1], vertex)])
+
+    def check_error(self, wanted, function, *given, **named):
+        """Checks that a call raises the error with this name, with the very argument if there is one."""
+        with self.assertRaises(ValueError) as caught:
+            self.call(function, *given, **named)
+        kept = list(vars(caught.exception).values())
+        self.assertEqual((type(caught.exception).__name__, len(kept)), (wanted[0], len(wanted) - 1))
+        if kept:
+            self.assertIs(kept[0], wanted[1])
+            self.same(kept[0], wanted[1])
+
+
+def drawn_action(chance, n):
+    """Returns an action on a joiner with n vertices, mostly a join of two of them."""
+    if chance.random() < 0.15:
+        return ("grow",)
+    return ("join", chance.randrange(n), chance.randrange(n))

@@ -12,6 +12,10 @@ PROMISES = {
     "growth": [*range(58, 68), *range(69, 74), 75, 76],
     "depths": range(78, 87),
     "shapes": range(88, 102),
+    "ranks": range(103, 111),
+    "joiners": range(112, 122),
+    "texts": range(123, 129),
+    "shells": range(130, 133),
 }
 
 

@@ -4,6 +4,8 @@ import importlib
 import inspect
 import unittest
 
+from linkforests.joiners import CountedJoiner, Joiner
+
 SIGNATURES = {
     "forests": {
         "is_forest": "(value)",
@@ -106,6 +108,24 @@ SIGNATURES = {
         "walk_shapes": "(n, *, skip=0)",
         "root_over": "(*shapes)",
     },
+    "ranks": {
+        "heights": "(forest)",
+        "gaps": "(forest)",
+        "is_ranked": "(forest)",
+        "is_rank_history": "(forest, value)",
+        "rank_certificate": "(forest)",
+        "rank_certificate_holds": "(forest, value)",
+        "count_rank_histories": "(forest)",
+        "run_rank_joins": "(n, joins)",
+    },
+    "texts": {
+        "forest_text": "(forest)",
+        "parse_forest": "(value)",
+        "vertices_text": "(vertices)",
+        "parse_vertices": "(value)",
+        "certificate_text": "(certificate)",
+        "parse_certificate": "(value)",
+    },
 }
 GENERATORS = ("states_along", "each_history", "walk_beginnings", "walk_growths", "walk_shapes")
 # For each class: its arguments, its methods, its class methods, its properties and its class values.
@@ -116,6 +136,33 @@ CLASSES = {
         "class methods": {"of": "(other)"},
         "properties": ("at", "left", "choices"),
         "values": {"KINDS": ("apart", "closed", "heavy")},
+    },
+    ("joiners", "Joiner"): {
+        "arguments": "(n, *, bound=60)",
+        "methods": {
+            "set_bound": "(self, value)", "join": "(self, one, other)", "grow": "(self)",
+            "join_all": "(self, *vertices)", "undo": "(self)", "forest": "(self, *, version=None)",
+            "find": "(self, vertex)", "weight": "(self, vertex)", "walk": "(self, vertex)", "joins": "(self)",
+            "actions": "(self)", "apply": "(self, batch, *, on_step=None)", "copy": "(self)", "__len__": "(self)",
+            "__eq__": "(self, other)", "__str__": "(self)",
+        },
+        "class methods": {"of": "(forest)"},
+        "properties": ("bound", "trees"),
+        "values": {"LIMIT": 60},
+    },
+    ("joiners", "CountedJoiner"): {
+        "arguments": "(n, *, bound=60)",
+        "methods": {"__str__": "(self)"},
+        "class methods": {},
+        "properties": ("steps",),
+        "values": {},
+    },
+    ("shells", "Shell"): {
+        "arguments": "(joiner)",
+        "methods": {"execute": "(self, value)", "transcript": "(self)"},
+        "class methods": {"fed": "(joiner, *lines)"},
+        "properties": ("last",),
+        "values": {"WORDS": ("join", "undo", "forest", "find", "weight", "build", "count", "first")},
     },
 }
 ROWS = [(module, name, wanted) for module, names in SIGNATURES.items() for name, wanted in names.items()]
@@ -172,6 +219,9 @@ class ClassesTest(unittest.TestCase):
                 self.assertIsInstance(vars(found)[name], property)
                 self.assertIsNone(vars(found)[name].fset)
         self.check_classes(check)
+
+    def test_a_counted_joiner_is_a_joiner(self):
+        self.assertEqual(CountedJoiner.__bases__, (Joiner,))
 
     def test_class_values(self):
         def check(found, wanted):

@@ -18,7 +18,8 @@ BUILTINS = set(
     " all divmod ValueError property classmethod".split()
 )
 METHODS = set(
-    "append bit_length clear copy count extend get index insert items keys pop remove reverse update values".split()
+    "append bit_length clear copy count extend get index insert isascii isdigit items join keys partition pop remove"
+    " reverse split startswith update values".split()
 )
 
 
@@ -90,7 +91,8 @@ class LanguageTest(unittest.TestCase):
         named = [(name, node.id) for name, node in nodes_of(ast.Name)]
         named += [(name, node.arg) for name, node in nodes_of(ast.arg)]
         named += [(name, node.attr) for name, node in nodes_of(ast.Attribute)]
-        self.assertEqual([row for row in named if row[1].startswith("_")], [])
+        # The one exception is how a base class is set up.
+        self.assertEqual([row for row in named if row[1].startswith("_") and row[1] != "__init__"], [])
 
     def test_local_names_have_no_other_meaning(self):
         for path, text in sources():
@@ -160,6 +162,36 @@ class LanguageTest(unittest.TestCase):
                 with self.subTest(file=name, line=node.lineno):
                     self.assertIsInstance(node.right, ast.Constant)
                     self.assertLessEqual(node.right.value, 64)
+
+    def test_imported_names_are_used(self):
+        for path, text in sources():
+            parts = list(ast.walk(ast.parse(text)))
+            imported = {alias.name for part in parts if isinstance(part, ast.ImportFrom) for alias in part.names}
+            with self.subTest(file=path.name):
+                self.assertEqual(imported - {part.id for part in parts if isinstance(part, ast.Name)}, set())
+
+    def test_caught_errors_are_own_ones(self):
+        own = defined(ast.ClassDef)
+        for name, node in nodes_of(ast.ExceptHandler):
+            with self.subTest(file=name, line=node.lineno):
+                self.assertIn(node.type.id, own)
+
+    def test_raised_errors_are_made_on_the_spot(self):
+        own = defined(ast.ClassDef)
+        for name, node in nodes_of(ast.Raise):
+            if node.exc is not None:
+                with self.subTest(file=name, line=node.lineno):
+                    self.assertIn(node.exc.func.id, own)
+
+    def test_sums_and_the_like_take_lists(self):
+        generators = [node.lineno for name, node in nodes_of(ast.GeneratorExp)]
+        self.assertEqual(generators, [])
+
+    def test_no_name_is_a_property_and_an_attribute(self):
+        stored = {node.attr for name, node in nodes_of(ast.Attribute) if isinstance(node.ctx, ast.Store)}
+        for name, node in nodes_of(ast.FunctionDef):
+            if any(part.id in ("property", "classmethod") for part in node.decorator_list):
+                self.assertNotIn(node.name, stored)
 
     def test_is_stands_beside_constants(self):
         for name, node in nodes_of(ast.Compare):
