@@ -5,9 +5,10 @@ from linkforests.forests import is_vertex, single, weights
 
 
 class Course:
-    """The joins from a start, at first single vertices, to a forest: those done so far, and those that can follow.
+    """The joins from a start, by default single vertices, to a forest: those done so far, and those that can follow.
 
-    No parent may differ, and no vertex may be left below one that is not a root of the start.
+    What can follow is known only if no parent differs, and if nothing is joined below a vertex that is no root of
+    the start.
     """
 
     def __init__(self, parents, start=None):

@@ -4,7 +4,7 @@ from linkforests.bounds import LISTED, MAX_VERTICES, SHAPE_VERTICES
 from linkforests.courses import binomial
 from linkforests.depths import check_count
 from linkforests.errors import BadShape, NoIndex, TooMany
-from linkforests.forests import check_vertex, children_of, is_plain_int, roots
+from linkforests.forests import children_of, is_plain_int, roots
 
 
 def nest_weight(value, most):
@@ -56,7 +56,6 @@ def shape_weight(value):
 
 def shape_of(forest, vertex):
     """Returns the shape of the tree of vertex."""
-    check_vertex(forest, vertex)
     return tuple(sorted([shape_of(forest, child) for child in children_of(forest, vertex)], key=place))
 
 
@@ -119,88 +118,79 @@ def count_labellings(value):
     return factorial(nest_weight(value, SHAPE_VERTICES)) // count_exchanges(value)
 
 
-def spread(sums, weight, ways, bounded):
-    """Returns the sums after any number of items of this weight are added.
+def unnamed_ways(total, many, weight, kinds):
+    """Returns in how many ways so many of these kinds of trees can be chosen with repetition."""
+    return binomial(kinds + many - 1, many)
 
-    sums[t] is the number of choices of lighter items with the weight t together, and ways(t, many) in how many ways
-    so many items can be added to these. Where bounded is True, they may not be heavier than 1 plus the lighter ones.
+
+def named_ways(total, many, weight, kinds):
+    """Returns in how many ways so many trees of a weight can be put beside total vertices, with names for all.
+
+    kinds is the number of trees of this weight with names for their vertices.
+    """
+    ways = 1
+    for step in range(1, many + 1):
+        ways *= binomial(total + step * weight, weight) * kinds
+    return ways // factorial(many)
+
+
+def spread(sums, weight, kinds, ways, bounded):
+    """Returns the sums after any number of trees of this weight, of which there are so many kinds, are added.
+
+    sums[t] is the number of choices of lighter trees with the weight t together, and ways is unnamed_ways or
+    named_ways. If bounded is True, no tree may be heavier than 1 plus the lighter ones.
     """
     longer = list(sums)
     for total, before in enumerate(sums):
         if before and (weight <= 1 + total or not bounded):
             for many in range(1, (len(sums) - 1 - total) // weight + 1):
-                longer[total + many * weight] += before * ways(total, many)
+                longer[total + many * weight] += before * ways(total, many, weight, kinds)
     return longer
 
 
-def alike(kinds, many):
-    """Returns in how many ways so many things of these kinds can be chosen with repetition."""
-    return binomial(kinds + many - 1, many)
-
-
-def shape_counts(n):
-    """Returns the list of the numbers of built shapes of the weights 0 to n."""
+def tree_counts(n, ways):
+    """Returns the list of the numbers of built trees with 0 to n vertices; ways as in spread."""
     counts = [0]
     sums = [1] + [0] * (n - 1)
     for weight in range(1, n + 1):
-        kinds = sums[weight - 1]
+        # The root is a tree of one vertex that is put beside what is below it.
+        kinds = sums[weight - 1] * ways(weight - 1, 1, 1, 1)
         counts.append(kinds)
-        sums = spread(sums, weight, lambda total, many: alike(kinds, many), True)
+        sums = spread(sums, weight, kinds, ways, True)
     return counts
+
+
+def count_forests(n, ways):
+    """Returns the number of built forests with n vertices; ways as in spread."""
+    sums = [1] + [0] * n
+    counts = tree_counts(n, ways)
+    for weight in range(1, n + 1):
+        sums = spread(sums, weight, counts[weight], ways, False)
+    return sums[n]
 
 
 def count_shapes(n):
     """Returns the number of built shapes of weight n."""
     check_count(n, SHAPE_VERTICES)
-    return shape_counts(n)[n]
+    return tree_counts(n, unnamed_ways)[n]
 
 
 def count_forest_shapes(n):
     """Returns the number of different tuples of the shapes of all trees of built forests with n vertices."""
     check_count(n, SHAPE_VERTICES)
-    sums = [1] + [0] * n
-    for weight, kinds in enumerate(shape_counts(n)):
-        if weight:
-            sums = spread(sums, weight, lambda total, many: alike(kinds, many), False)
-    return sums[n]
-
-
-def named_ways(total, many, weight, trees):
-    """Returns in how many ways so many trees of a weight can be put beside total vertices, all names being exchanged.
-
-    trees is the number of trees of this weight.
-    """
-    ways = 1
-    for step in range(1, many + 1):
-        ways *= binomial(total + step * weight, weight) * trees
-    return ways // factorial(many)
-
-
-def tree_counts(n):
-    """Returns the list of the numbers of built trees with 0 to n vertices."""
-    counts = [0]
-    sums = [1] + [0] * (n - 1)
-    for weight in range(1, n + 1):
-        trees = weight * sums[weight - 1]
-        counts.append(trees)
-        sums = spread(sums, weight, lambda total, many: named_ways(total, many, weight, trees), True)
-    return counts
+    return count_forests(n, unnamed_ways)
 
 
 def count_built_trees(n):
     """Returns the number of built forests with n vertices that are one tree."""
     check_count(n, MAX_VERTICES)
-    return tree_counts(n)[n]
+    return tree_counts(n, named_ways)[n]
 
 
 def count_built_forests(n):
     """Returns the number of built forests with n vertices."""
     check_count(n, MAX_VERTICES)
-    sums = [1] + [0] * n
-    for weight, trees in enumerate(tree_counts(n)):
-        if weight:
-            sums = spread(sums, weight, lambda total, many: named_ways(total, many, weight, trees), False)
-    return sums[n]
+    return count_forests(n, named_ways)
 
 
 class Numbering:
@@ -210,7 +200,7 @@ class Numbering:
     """
 
     def __init__(self, n):
-        self.counts = shape_counts(n)
+        self.counts = tree_counts(n, unnamed_ways)
         self.ends = {}
         self.made = {}
 
@@ -235,7 +225,7 @@ class Numbering:
         ways = 0
         chosen = 1
         for many in range(1, (len(row) - 1 - total) // weight + 1):
-            # This is alike(kinds, many), made from the one before it.
+            # In so many ways can so many items be chosen, as in unnamed_ways.
             chosen = chosen * (self.counts[weight] - low + many - 1) // many
             ways += chosen * row[total + many * weight]
         return ways
@@ -328,7 +318,8 @@ def shape_index(value):
 def walk_shapes(n, *, skip=0):
     """Yields the built shapes of weight n in shape order, without the first ones, as many as skip says."""
     numbering = Numbering(n)
-    for number in range(skip, numbering.counts[n]):
+    many = numbering.counts[n]
+    for number in range(skip, many):
         yield numbering.shape_with(n, number)
 
 

@@ -5,7 +5,7 @@ from functools import reduce
 from itertools import combinations, product
 from random import Random
 
-from linkforests.builds import is_built
+from linkforests.builds import beside, is_built
 from linkforests.bounds import LISTED
 from linkforests.errors import NotBuilt, TooMany
 from linkforests.forests import single
@@ -112,6 +112,12 @@ class ListingTest(StartCase):
                 self.same(self.refused(TooMany, starts_of, (0,) * n).limit, 2000)
             else:
                 self.assertEqual(len(starts_of((0,) * n)), 2 ** (n - 1))
+
+    def test_exactly_as_many_as_can_be_listed(self):
+        forest = beside(*[(0, 0, 0, 2)] * 3, *[(0, 0)] * 4)
+        self.same(count_starts(forest), 2000)
+        rows = self.call(starts_of, forest)
+        self.assertEqual((len(rows), list(rows)), (2000, sorted(set(rows))))
 
     def test_many_but_not_too_many(self):
         forest = (0,) * 5 + (5,) * 5 + (10,) * 3
