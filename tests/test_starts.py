@@ -12,7 +12,7 @@ from linkforests.forests import single
 from linkforests.growth import common_start, count_starts, grows_from, merge_starts, starts_of
 from tests.support import (
     CallCase, all_forests, arising_forests, built_forests, grown, listed_beginnings, lower_vertices, random_beginning,
-    random_built, random_forest, shaped_built, true_heavy, true_weights, unbuilt_forests, with_item,
+    random_built, random_forest, shaped_built, true_heavy, true_weights, unbuilt_forests, with_join,
 )
 
 
@@ -27,22 +27,19 @@ def state_after(forest, joined):
 
 
 def starts_by_joins(forest):
-    """Returns the set of all starts of a forest, found join by join among the forests that arise."""
+    """Returns the set of all starts of a forest, found join by join from single vertices."""
     found = {single(len(forest))}
     front = list(found)
     while front:
         state = front.pop()
-        for vertex in lower_vertices(forest):
-            after = with_item(state, vertex, forest[vertex])
-            if after in arising_forests(len(forest)) and not leads_away(after, forest) and after not in found:
+        waiting = [vertex for vertex in lower_vertices(forest) if state[vertex] == vertex]
+        for vertex in waiting:
+            after = with_join(state, vertex, forest)
+            # A vertex that is joined before one of its children would lead away from the forest.
+            if after is not None and vertex not in [forest[other] for other in waiting] and after not in found:
                 found.add(after)
                 front.append(after)
     return found
-
-
-def leads_away(state, forest):
-    """Returns whether a vertex was joined before one of its children."""
-    return any(state[v] == v and state[forest[v]] != forest[v] for v in lower_vertices(forest))
 
 
 def count_by_sets(forest, vertex):
@@ -83,7 +80,7 @@ class ListingTest(StartCase):
             self.same(self.call(count_starts, forest), len(wanted), forest)
 
     def test_join_by_join(self):
-        for forest in [forest for n in range(1, 6) for forest in shaped_built(n)]:
+        for forest in listed_built():
             self.assertEqual(set(starts_of(forest)), starts_by_joins(forest), forest)
 
     def test_starts_are_built_and_the_forest_grows_from_them(self):
